@@ -1,0 +1,1 @@
+"""Skeinwood: texts kept as trees of pieces, joined, cut and taken back."""
