@@ -2,6 +2,8 @@
 
 LEAF_SIGNS = 8
 NAME_SIGNS = 8
+# The most signs of a plain text of which a text is built, or as which one is told.
+MOST_PLAIN = 10000
 
 
 def is_whole(thing):

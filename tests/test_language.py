@@ -16,6 +16,13 @@ TWO_UNDERSCORES = ["__init__", "__eq__", "__repr__", "__str__", "__len__"]
 WORDS = """type typing typing_extensions enum Enum IntEnum StrEnum Flag IntFlag Generic Protocol ABC ABCMeta namedtuple
 NamedTuple TypedDict TYPE_CHECKING abstractmethod""".split()
 PARTS = ["dataclass", "overload", "contextmanager"]
+METHODS = """append clear copy count endswith extend find get index insert isalnum isalpha isdigit islower isspace isupper
+items join keys ljust lower lstrip partition pop remove replace reverse rfind rjust rpartition rsplit rstrip setdefault
+split splitlines startswith strip update upper values zfill bit_length""".split()
+UNUSED = """register mro elements open input version_info with_traceback add_note format format_map attrgetter methodcaller
+os gc sys importlib""".split()
+WALKED = ["zip", "enumerate", "reversed", "range", "items", "keys", "values"]
+WALKERS = ["list", "tuple", "dict", "sorted", "sum", "any", "all", "enumerate", "zip", "min", "max", "join"]
 NODES = (
     ast.Import, ast.With, ast.Match, ast.Delete, ast.Global, ast.Nonlocal, ast.Assert, ast.Yield, ast.YieldFrom,
     ast.AsyncFunctionDef, ast.AsyncFor, ast.AsyncWith, ast.Await, ast.Set, ast.SetComp, ast.DictComp, ast.GeneratorExp,
@@ -37,6 +44,17 @@ def bound_names(tree):
             yield node.id
         elif isinstance(node, ast.Attribute):
             yield node.attr
+
+
+def called(node):
+    """The name by which a call calls, None where node is no call of a name or method."""
+    if not isinstance(node, ast.Call):
+        return None
+    return node.func.attr if isinstance(node.func, ast.Attribute) else getattr(node.func, "id", None)
+
+
+def parents_of(tree):
+    return {child: node for node in ast.walk(tree) for child in ast.iter_child_nodes(node)}
 
 
 class LanguageTest(unittest.TestCase):
@@ -115,6 +133,56 @@ class LanguageTest(unittest.TestCase):
                     self.assertFalse(isinstance(node.ctx, ast.Store) and node.id in BUILTINS, node.id)
                 if isinstance(node, ast.arg):
                     self.assertFalse(hasattr(builtins, node.arg), node.arg)
+
+    def test_methods_are_those_of_the_list_or_the_packages_own(self):
+        own = set()
+        for text, tree in self.each():
+            own |= {part.name for node in tree.body if isinstance(node, ast.ClassDef) for part in node.body
+                    if isinstance(part, ast.FunctionDef)}
+        for text, tree in self.each():
+            for node in ast.walk(tree):
+                if isinstance(node, ast.Call) and isinstance(node.func, ast.Attribute):
+                    self.assertIn(node.func.attr, own | set(METHODS))
+                if isinstance(node, (ast.Name, ast.Attribute)):
+                    self.assertNotIn(node.id if isinstance(node, ast.Name) else node.attr, UNUSED)
+
+    def test_pythons_own_names_are_called_and_walks_are_not_kept(self):
+        for text, tree in self.each():
+            parents = parents_of(tree)
+            for node in ast.walk(tree):
+                above = parents.get(node)
+                if isinstance(node, ast.Name) and node.id in BUILTINS and not isinstance(above, ast.ClassDef):
+                    kinds = called(above) == "isinstance" or called(parents.get(above)) == "isinstance"
+                    self.assertTrue(kinds or called(above) == node.id, node.id)
+                if called(node) in WALKED:
+                    walk = isinstance(above, (ast.For, ast.comprehension)) and above.iter is node
+                    self.assertTrue(walk or called(above) in WALKERS, called(node))
+
+    def test_expressions(self):
+        for text, tree in self.each():
+            self.assertNotRegex(text, r"\\[^nt\\\"']")
+            for node in ast.walk(tree):
+                if isinstance(node, ast.Compare) and any(isinstance(op, (ast.Is, ast.IsNot)) for op in node.ops):
+                    self.assertIn(getattr(node.comparators[0], "value", 0), (None, True, False))
+                if isinstance(node, ast.BinOp) and isinstance(node.op, ast.Pow):
+                    self.assertIsInstance(node.right, ast.Constant)
+                if isinstance(node, ast.Constant) and isinstance(node.value, str):
+                    self.assertNotIn("%", node.value)
+                if isinstance(node, ast.ListComp):
+                    self.assertEqual(len(node.generators), 1)
+                    self.assertLessEqual(len(node.generators[0].ifs), 1)
+
+    def test_no_local_is_called_like_a_class_or_an_import_of_its_file(self):
+        for text, tree in self.each():
+            taken = {node.name for node in tree.body if isinstance(node, (ast.ClassDef, ast.FunctionDef))}
+            for row in tree.body:
+                if isinstance(row, ast.ImportFrom):
+                    taken |= {drawn.asname or drawn.name for drawn in row.names}
+            for node in ast.walk(tree):
+                if isinstance(node, ast.arg):
+                    self.assertNotIn(node.arg, taken)
+                if isinstance(node, ast.Name) and isinstance(node.ctx, ast.Store):
+                    self.assertNotIn(node.id, taken)
 
     def test_no_name_is_a_method_here_and_a_value_there(self):
         methods, kept = set(), set()

@@ -5,84 +5,12 @@ import unittest
 
 from skeinwood.errors import Loose, NoPiece, NoText, TooLong, Unlevel
 from skeinwood.shelves import Shelf
+from tests.helper import ASKS, MOST, ShelfCase, leaf_list, pieces_of, reads, spread, tallness
 
-MOST = 10 ** 18
-ASKS = ["signs", "ends", "leaves", "height", "first_leaf", "last_leaf"]
 NO_LEAVES = [
     "", "123456789", "x" * 20000, "\t", "a\tb", "1234567\t", "\r", "\u00e9", "\x7f",
     0, 1, -1, True, False, None, [], ["a"], (), ("a",), ("leaf", "a"), {}, {"a": "b"},
 ]
-
-
-def fork_row(shelf, leaf, leaves):
-    """A level text of so many times the same leaf of eight signs."""
-    made = {1: leaf}
-
-    def half(many):
-        if many not in made:
-            made[many] = shelf.fork(half(many // 2), half(many - many // 2))
-        return made[many]
-    return half(leaves)
-
-
-def spread(shelf, signs, small_first=False):
-    """A level text of so many signs; the leaf with less than eight, if any, is its last one, or its first."""
-    full = shelf.leaf("abcdefg\n")
-    rest = signs % 8
-    small = shelf.leaf("abcdefg"[:rest]) if rest else full
-
-    def half(many):
-        if many == 1:
-            return small
-        if small_first:
-            return shelf.fork(half(many - many // 2), fork_row(shelf, full, many // 2))
-        return shelf.fork(fork_row(shelf, full, many // 2), half(many - many // 2))
-    return half((signs + 7) // 8)
-
-
-def reads(shelf, text):
-    """What the text reads as, by its pieces alone."""
-    if text == 0:
-        return ""
-    piece = shelf.piece(text)
-    if piece[0] == "leaf":
-        return piece[1]
-    return reads(shelf, piece[1]) + reads(shelf, piece[2])
-
-
-def leaf_list(shelf, text):
-    if text == 0:
-        return []
-    piece = shelf.piece(text)
-    return [text] if piece[0] == "leaf" else leaf_list(shelf, piece[1]) + leaf_list(shelf, piece[2])
-
-
-def tallness(shelf, text):
-    if text == 0:
-        return -1
-    piece = shelf.piece(text)
-    return 0 if piece[0] == "leaf" else 1 + max(tallness(shelf, piece[1]), tallness(shelf, piece[2]))
-
-
-def pieces_of(shelf):
-    return [shelf.piece(number) for number in range(1, shelf.many() + 1)]
-
-
-class ShelfCase(unittest.TestCase):
-    def setUp(self):
-        self.shelf = Shelf()
-
-    def refused(self, error, deed, *things):
-        """The deed is refused with just this class, and leaves the shelf as it was."""
-        ahead = pieces_of(self.shelf)
-        with self.assertRaises(error) as taken:
-            deed(*things)
-        self.assertIs(type(taken.exception), error)
-        self.assertEqual(pieces_of(self.shelf), ahead)
-        self.assertEqual(self.shelf.many(), len(ahead))
-
-    def told(self, text):
-        return [getattr(self.shelf, ask)(text) for ask in ASKS]
 
 
 class LeafTest(ShelfCase):

@@ -1,0 +1,206 @@
+"""What the tests have in common: texts of many kinds, and what the pieces themselves tell of them."""
+
+import copy
+import unittest
+
+from skeinwood.errors import NoPiece
+from skeinwood.shelves import Shelf
+
+MOST = 10 ** 18
+ASKS = ["signs", "ends", "leaves", "height", "first_leaf", "last_leaf"]
+# Neither plain texts nor, where a plain text of any length is asked, anything else that is one.
+NOT_PLAIN = [
+    "\t", "a\tb", "x" * 20000 + "\t", "\r", "\u00e9", "\x7f",
+    0, 1, -1, True, False, None, [], ["a"], (), ("a",), ("leaf", "a"), {}, {"a": "b"},
+]
+
+
+def fork_row(shelf, leaf, leaves):
+    """A level text of so many times the same leaf of eight signs."""
+    made = {1: leaf}
+
+    def half(many):
+        if many not in made:
+            made[many] = shelf.fork(half(many // 2), half(many - many // 2))
+        return made[many]
+    return half(leaves)
+
+
+def spread(shelf, signs, small_first=False):
+    """A level text of so many signs; the leaf with less than eight, if any, is its last one, or its first."""
+    full = shelf.leaf("abcdefg\n")
+    rest = signs % 8
+    small = shelf.leaf("abcdefg"[:rest]) if rest else full
+
+    def half(many):
+        if many == 1:
+            return small
+        if small_first:
+            return shelf.fork(half(many - many // 2), fork_row(shelf, full, many // 2))
+        return shelf.fork(fork_row(shelf, full, many // 2), half(many - many // 2))
+    return half((signs + 7) // 8)
+
+
+def reads(shelf, text):
+    """What the text reads as, by its pieces alone."""
+    if text == 0:
+        return ""
+    piece = shelf.piece(text)
+    if piece[0] == "leaf":
+        return piece[1]
+    return reads(shelf, piece[1]) + reads(shelf, piece[2])
+
+
+def leaf_list(shelf, text):
+    if text == 0:
+        return []
+    piece = shelf.piece(text)
+    return [text] if piece[0] == "leaf" else leaf_list(shelf, piece[1]) + leaf_list(shelf, piece[2])
+
+
+def tallness(shelf, text):
+    if text == 0:
+        return -1
+    piece = shelf.piece(text)
+    return 0 if piece[0] == "leaf" else 1 + max(tallness(shelf, piece[1]), tallness(shelf, piece[2]))
+
+
+def pieces_of(shelf):
+    return [shelf.piece(number) for number in range(1, shelf.many() + 1)]
+
+
+def way_by_pieces(shelf, text, place):
+    """The way to a place of the text, and the sign there, by its pieces alone."""
+    way = [text]
+    while shelf.piece(way[-1])[0] == "fork":
+        one, other = shelf.piece(way[-1])[1:]
+        ahead = shelf.signs(one)
+        way.append(one if place < ahead else other)
+        place -= 0 if place < ahead else ahead
+    return way, shelf.piece(way[-1])[1][place]
+
+
+def sign_by_pieces(shelf, text, place):
+    return way_by_pieces(shelf, text, place)[1]
+
+
+def part_by_pieces(shelf, text, begin, end):
+    return "".join(sign_by_pieces(shelf, text, place) for place in range(begin, end))
+
+
+def times_itself(shelf, plain, turns):
+    """A leaf of five to eight signs forked with itself, and that with itself, and so on."""
+    text = shelf.leaf(plain)
+    for turn in range(turns):
+        text = shelf.fork(text, text)
+    return text
+
+
+def drawn_plain(chance, signs, letters="ab\n ~\\"):
+    return "".join(chance.choice(letters) for sign in range(signs))
+
+
+def drawn_text(shelf, chance, plain):
+    """A text that reads so, of leaves drawn short and long, forked as drawn."""
+    leaves = []
+    while plain:
+        least = 9 - shelf.signs(leaves[-1]) if leaves else 1
+        length = chance.randint(least, 8)
+        if length > len(plain) and leaves and len(plain) < least:
+            return None
+        leaves.append(shelf.leaf(plain[:length]))
+        plain = plain[length:]
+    return drawn_forks(shelf, chance, leaves)
+
+
+def drawn_forks(shelf, chance, leaves):
+    while len(leaves) > 1:
+        places = range(len(leaves) - 1)
+        low = min(max(shelf.height(leaves[place]), shelf.height(leaves[place + 1])) for place in places)
+        fit = [place for place in places
+               if abs(shelf.height(leaves[place]) - shelf.height(leaves[place + 1])) <= 1
+               and max(shelf.height(leaves[place]), shelf.height(leaves[place + 1])) <= low + 1]
+        if not fit:
+            return None
+        place = chance.choice(fit)
+        leaves[place:place + 2] = [shelf.fork(leaves[place], leaves[place + 1])]
+    return leaves[0] if leaves else 0
+
+
+def some_text(shelf, chance, plain):
+    """As drawn_text, drawn anew until the leaves and forks go together."""
+    while True:
+        text = drawn_text(shelf, chance, plain)
+        if text is not None:
+            return text
+
+
+class ShelfCase(unittest.TestCase):
+    def setUp(self):
+        self.shelf = Shelf()
+
+    def sound(self):
+        """All pieces of the shelf are unlike, level and close, and not too long, as they themselves tell."""
+        pieces = pieces_of(self.shelf)
+        self.assertEqual(len(set(pieces)), len(pieces))
+        measures = [None]
+        for number, piece in enumerate(pieces, start=1):
+            if piece[0] == "leaf":
+                length = len(piece[1])
+                self.assertTrue(1 <= length <= 8)
+                measures.append((0, length, length, length, 1, piece[1].count("\n")))
+            else:
+                one, other = measures[piece[1]], measures[piece[2]]
+                self.assertLessEqual(abs(one[0] - other[0]), 1)
+                self.assertGreater(one[3] + other[2], 8)
+                measures.append((
+                    max(one[0], other[0]) + 1, one[1] + other[1], one[2], other[3], one[4] + other[4], one[5] + other[5]))
+            height, signs, first, last, leaves, ends = measures[-1]
+            self.assertLessEqual(signs, MOST)
+            self.assertEqual(self.told(number)[:4], [signs, ends, leaves, height])
+
+    def asked(self, ask, *things):
+        """What is told, twice the same; nothing that is handed in is changed, and no piece is put there."""
+        many = self.shelf.many()
+        kept = copy.deepcopy(things)
+        told = ask(self.shelf, *things)
+        again = ask(self.shelf, *things)
+        self.assertEqual(again, told)
+        self.assertEqual(things, kept)
+        self.assertEqual(self.shelf.many(), many)
+        if isinstance(told, list):
+            self.assertIsNot(told, again)
+            self.assertFalse(any(told is thing for thing in things))
+        return told
+
+    def done(self, most, deed, *things):
+        """What is told by a deed of so many new pieces at most; done again it tells the same, and puts none there."""
+        ahead = pieces_of(self.shelf)
+        told = deed(self.shelf, *things)
+        many = self.shelf.many()
+        if most is not None:
+            self.assertLessEqual(many - len(ahead), most)
+        self.assertEqual(deed(self.shelf, *things), told)
+        self.assertEqual(self.shelf.many(), many)
+        self.assertEqual(pieces_of(self.shelf)[:len(ahead)], ahead)
+        return told
+
+    def no_piece(self, ask, *things):
+        """NoPiece, ahead of all else, for each number that is neither 0 nor a piece's; None stands for it in things."""
+        many = self.shelf.many()
+        for wrong in (-1, -2, -many, -many - 1, many + 1, many + 2, 10 ** 29, -(10 ** 29)):
+            if wrong != 0:
+                given = [wrong if thing is None else thing for thing in things]
+                self.refused(NoPiece, ask, self.shelf, *given)
+
+    def refused(self, error, deed, *things):
+        """The deed is refused with just this class, and leaves the shelf as it was."""
+        ahead = pieces_of(self.shelf)
+        with self.assertRaises(error) as taken:
+            deed(*things)
+        self.assertIs(type(taken.exception), error)
+        self.assertEqual(pieces_of(self.shelf), ahead)
+        self.assertEqual(self.shelf.many(), len(ahead))
+
+    def told(self, text):
+        return [getattr(self.shelf, ask)(text) for ask in ASKS]
