@@ -30,6 +30,20 @@ def check_place(shelf, text, place):
         raise NoPlace("the text has no such place")
 
 
+def check_gap(shelf, text, at):
+    """Refuse a number that is neither a place of the text nor its end."""
+    signs = shelf.signs(text)
+    if not 0 <= at <= signs:
+        raise NoPlace("the text has no such place, and does not end there")
+
+
+def check_stretch(shelf, text, begin, end):
+    """Refuse a begin and an end between which the text has no stretch."""
+    signs = shelf.signs(text)
+    if not 0 <= begin <= end <= signs:
+        raise NoPlace("the text has no such stretch")
+
+
 def steps_to(shelf, text, place):
     """The way to a place, or to the end, of a text with signs: each piece with the place counted from its begin."""
     step = (text, place)

@@ -252,8 +252,8 @@ class RepeatedTest(ShelfCase):
         told = self.repeat(text, many)
         length = self.shelf.signs(text)
         signs = length * many
-        places = [0, signs - 1, length - 1, length % signs, signs // 2] + [chance.randrange(signs) for turn in range(20)]
-        for place in places:
+        places = [0, signs - 1, length - 1, length % signs, signs // 2]
+        for place in places + [chance.randrange(signs) for turn in range(20)]:
             wish = sign_by_pieces(self.shelf, text, place % length)
             self.assertEqual(sign_by_pieces(self.shelf, told, place), wish)
 

@@ -16,11 +16,11 @@ TWO_UNDERSCORES = ["__init__", "__eq__", "__repr__", "__str__", "__len__"]
 WORDS = """type typing typing_extensions enum Enum IntEnum StrEnum Flag IntFlag Generic Protocol ABC ABCMeta namedtuple
 NamedTuple TypedDict TYPE_CHECKING abstractmethod""".split()
 PARTS = ["dataclass", "overload", "contextmanager"]
-METHODS = """append clear copy count endswith extend find get index insert isalnum isalpha isdigit islower isspace isupper
-items join keys ljust lower lstrip partition pop remove replace reverse rfind rjust rpartition rsplit rstrip setdefault
-split splitlines startswith strip update upper values zfill bit_length""".split()
-UNUSED = """register mro elements open input version_info with_traceback add_note format format_map attrgetter methodcaller
-os gc sys importlib""".split()
+METHODS = """append clear copy count endswith extend find get index insert isalnum isalpha isdigit islower isspace
+isupper items join keys ljust lower lstrip partition pop remove replace reverse rfind rjust rpartition rsplit rstrip
+setdefault split splitlines startswith strip update upper values zfill bit_length""".split()
+UNUSED = """register mro elements open input version_info with_traceback add_note format format_map attrgetter
+methodcaller os gc sys importlib""".split()
 WALKED = ["zip", "enumerate", "reversed", "range", "items", "keys", "values"]
 WALKERS = ["list", "tuple", "dict", "sorted", "sum", "any", "all", "enumerate", "zip", "min", "max", "join"]
 NODES = (
