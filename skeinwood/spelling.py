@@ -31,12 +31,17 @@ def left_behind(shelf, text, items):
 
     No piece is a part of itself, so an item can be taken in one way alone and nothing need be tried twice.
     """
-    shelf.check_text(text)
-    left = [] if text == 0 else [text]
+    left = whole_left(shelf, text)
     for item in items:
         if not takes_item(shelf, left, item):
             return None
     return left
+
+
+def whole_left(shelf, text):
+    """What is left of a text of which nothing is taken yet."""
+    shelf.check_text(text)
+    return [] if text == 0 else [text]
 
 
 def takes_item(shelf, left, item):
@@ -65,8 +70,7 @@ def takes_plain(shelf, left, plain):
         both = min(len(signs), len(rest))
         if both == 0 or signs[:both] != rest[:both]:
             return False
-        if both < len(signs):
-            left.append(signs[both:])
+        puts_back(left, signs[both:])
         rest = rest[both:]
     return True
 
@@ -92,3 +96,53 @@ def opens_fork(shelf, left, first):
     left.append(piece[2])
     left.append(piece[1])
     return True
+
+
+def common_items(shelf, left, other_left):
+    """Take items away from both, the longest that they have in common, until one has none left or they part."""
+    items = []
+    while left != [] and other_left != []:
+        item = common_item(shelf, left, other_left)
+        if item == "":
+            break
+        items.append(item)
+    return items
+
+
+def common_item(shelf, left, other_left):
+    """Take the longest item with which both go on away from them; the text without signs where they part."""
+    # The longer one alone is opened, so no piece that begins both is ever passed over.
+    while left[-1] != other_left[-1]:
+        shorter = size_of(shelf, left[-1]) < size_of(shelf, other_left[-1])
+        longer = other_left if shorter else left
+        first = longer.pop()
+        if not opens_fork(shelf, longer, first):
+            longer.append(first)
+            return common_signs(shelf, left, other_left)
+    other_left.pop()
+    return left.pop()
+
+
+def size_of(shelf, thing):
+    """How many signs a piece, or what is left of a begun leaf, has."""
+    if isinstance(thing, str):
+        return len(thing)
+    return shelf.signs(thing)
+
+
+def common_signs(shelf, left, other_left):
+    """Take the signs away that the next leaves of both have in common from their begin on, perhaps none."""
+    one = next_signs(shelf, left)
+    other = next_signs(shelf, other_left)
+    many = 0
+    while many < min(len(one), len(other)) and one[many] == other[many]:
+        many = many + 1
+    puts_back(left, one[many:])
+    puts_back(other_left, other[many:])
+    return one[:many]
+
+
+def puts_back(left, signs):
+    """Put what is left of a begun leaf back, if anything is."""
+    if signs != "":
+        left.append(signs)

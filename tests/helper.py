@@ -3,7 +3,10 @@
 import copy
 import unittest
 
+from skeinwood.cutting import kept_part, put_in, taken_out
 from skeinwood.errors import NoPiece
+from skeinwood.heights import leanest
+from skeinwood.joining import built, joined, repeated
 from skeinwood.shelves import Shelf
 
 MOST = 10 ** 18
@@ -12,6 +15,11 @@ ASKS = ["signs", "ends", "leaves", "height", "first_leaf", "last_leaf"]
 NOT_PLAIN = [
     "\t", "a\tb", "x" * 20000 + "\t", "\r", "\u00e9", "\x7f",
     0, 1, -1, True, False, None, [], ["a"], (), ("a",), ("leaf", "a"), {}, {"a": "b"},
+]
+# Nothing of these is an item of a spelling, whatever pieces the shelf has.
+NO_ITEMS = [
+    0, -1, -2, 10 ** 29, -(10 ** 29), True, False, None, "", "123456789", "a" * 9, "a" * 30, "\t", "a\tb", "\r",
+    "\u00e9", [], ["a"], [1], (), (1,), ("leaf", "a"), {}, {1: "a"},
 ]
 
 
@@ -96,6 +104,16 @@ def times_itself(shelf, plain, turns):
     return text
 
 
+def long_texts(shelf):
+    yield spread(shelf, MOST)
+    yield spread(shelf, MOST - 7, small_first=True)
+    yield times_itself(shelf, "a\nbcdefg", 56)
+    yield times_itself(shelf, "\n5678", 50)
+    yield leanest(shelf, 82)
+    yield leanest(shelf, 57)
+    yield repeated(shelf, built(shelf, "some words\n"), MOST // 11)
+
+
 def drawn_plain(chance, signs, letters="ab\n ~\\"):
     return "".join(chance.choice(letters) for sign in range(signs))
 
@@ -133,6 +151,139 @@ def some_text(shelf, chance, plain):
         text = drawn_text(shelf, chance, plain)
         if text is not None:
             return text
+
+
+def by_chunks(shelf, chance, plain, most=30):
+    """A text that reads so, joined of stretches drawn short and long, behind one another or ahead."""
+    text = 0
+    begin = end = chance.randrange(len(plain) + 1)
+    while begin > 0 or end < len(plain):
+        if chance.randrange(2):
+            further = min(end + chance.randint(1, most), len(plain))
+            text = joined(shelf, text, built(shelf, plain[end:further]))
+            end = further
+        else:
+            further = max(begin - chance.randint(1, most), 0)
+            text = joined(shelf, built(shelf, plain[further:begin]), text)
+            begin = further
+    return text
+
+
+def made_otherwise(shelf, chance, plain):
+    """A text that reads so, made in a way that is drawn."""
+    way = chance.randrange(5)
+    if way == 0:
+        return built(shelf, plain)
+    if way == 1:
+        return by_chunks(shelf, chance, plain)
+    if way == 2 and len(plain) < 60:
+        return some_text(shelf, chance, plain)
+    extra = drawn_plain(chance, chance.randint(1, 20))
+    at = chance.randrange(len(plain) + 1)
+    if way == 3:
+        more = put_in(shelf, built(shelf, plain), at, built(shelf, extra))
+        return taken_out(shelf, more, at, at + len(extra))
+    more = by_chunks(shelf, chance, extra + plain + extra)
+    return kept_part(shelf, more, len(extra), len(extra) + len(plain))
+
+
+def tokens(items):
+    """The list in which the plain items are put as their single signs."""
+    found = []
+    for item in items:
+        found += list(item) if isinstance(item, str) else [item]
+    return found
+
+
+def are_items(shelf, items):
+    """Whether each is a piece's number or a plain text of one to eight signs."""
+    for item in items:
+        if type(item) is int and 1 <= item <= shelf.many():
+            continue
+        if type(item) is str and 1 <= len(item) <= 8 and all(sign == "\n" or " " <= sign <= "~" for sign in item):
+            continue
+        return False
+    return True
+
+
+def spelled_ends(shelf, text, row, begin):
+    """Each end up to which the row's numbers and single signs from begin on spell the text, by the document's rules."""
+    if text == 0:
+        return {begin}
+    found = {begin + 1} if row[begin:begin + 1] == [text] else set()
+    piece = shelf.piece(text)
+    if piece[0] == "fork":
+        return found.union(*[spelled_ends(shelf, piece[2], row, end)
+                             for end in spelled_ends(shelf, piece[1], row, begin)])
+    end = begin + len(piece[1])
+    return found | {end} if row[begin:end] == list(piece[1]) else found
+
+
+def begun_by(shelf, text, row, begin):
+    """Whether further numbers and signs behind the row would make it, from begin on, spell the text."""
+    rest = row[begin:]
+    if rest == [] or text == 0:
+        return rest == []
+    piece = shelf.piece(text)
+    if piece[0] == "leaf":
+        return rest == [text] or rest == list(piece[1])[:len(rest)]
+    if rest == [text] or begun_by(shelf, piece[1], row, begin):
+        return True
+    return any(begun_by(shelf, piece[2], row, end) for end in spelled_ends(shelf, piece[1], row, begin))
+
+
+def spelled(shelf, text, items):
+    """Whether the items spell the text, by the document's rules."""
+    row = tokens(items) if are_items(shelf, items) else None
+    return row is not None and len(row) in spelled_ends(shelf, text, row, 0)
+
+
+def begun(shelf, text, items):
+    """Whether the items begin the text, by the document's rules."""
+    return are_items(shelf, items) and begun_by(shelf, text, tokens(items), 0)
+
+
+def drawn_row(shelf, chance, text, opened):
+    """Numbers and single signs that spell the text; of ten forks so many are opened, and so are leaves."""
+    if text == 0:
+        return []
+    if chance.randrange(10) >= opened:
+        return [text]
+    piece = shelf.piece(text)
+    if piece[0] == "leaf":
+        return list(piece[1])
+    return drawn_row(shelf, chance, piece[1], opened) + drawn_row(shelf, chance, piece[2], opened)
+
+
+def gathered(chance, row, most=8):
+    """The same as items: signs that stand side by side put together as drawn, so many at most."""
+    items = []
+    room = 0
+    for token in row:
+        if isinstance(token, int):
+            items.append(token)
+            room = 0
+        elif room > 0:
+            items[-1] += token
+            room -= 1
+        else:
+            items.append(token)
+            room = chance.randrange(most)
+    return items
+
+
+def plain_items(plain, length):
+    return [plain[begin:begin + length] for begin in range(0, len(plain), length)]
+
+
+def lists_in(thing):
+    """The thing, if it is a list, and all lists within it."""
+    if not isinstance(thing, (list, tuple)):
+        return []
+    found = [thing] if isinstance(thing, list) else []
+    for part in thing:
+        found += lists_in(part)
+    return found
 
 
 class ShelfCase(unittest.TestCase):
@@ -181,9 +332,10 @@ class ShelfCase(unittest.TestCase):
         self.assertEqual(again, told)
         self.assertEqual(things, kept)
         self.assertEqual(self.shelf.many(), many)
-        if isinstance(told, list):
-            self.assertIsNot(told, again)
-            self.assertFalse(any(told is thing for thing in things))
+        own = lists_in(told)
+        self.assertEqual(len({id(row) for row in own}), len(own))
+        elder = {id(row) for row in lists_in(again) + lists_in(things)}
+        self.assertFalse(any(id(row) in elder for row in own))
         return told
 
     def done(self, most, deed, *things):

@@ -4,11 +4,10 @@ import random
 import unittest
 
 from skeinwood.errors import NoPlace, TooLong
-from skeinwood.heights import leanest
 from skeinwood.joining import built, joined, repeated
 from skeinwood.reading import sign_at, stretch_of, whole_text
 from tests.helper import (
-    MOST, ShelfCase, drawn_plain, part_by_pieces, sign_by_pieces, some_text, spread, times_itself)
+    MOST, ShelfCase, drawn_plain, long_texts, part_by_pieces, sign_by_pieces, some_text, times_itself)
 
 BEYOND = [10 ** 29, -(10 ** 29), 10 ** 30 - 1]
 
@@ -20,16 +19,6 @@ def low_texts(shelf):
         plain = drawn_plain(chance, signs)
         yield some_text(shelf, chance, plain), plain
         yield built(shelf, plain), plain
-
-
-def long_texts(shelf):
-    yield spread(shelf, MOST)
-    yield spread(shelf, MOST - 7, small_first=True)
-    yield times_itself(shelf, "a\nbcdefg", 56)
-    yield times_itself(shelf, "\n5678", 50)
-    yield leanest(shelf, 82)
-    yield leanest(shelf, 60)
-    yield repeated(shelf, built(shelf, "some words\n"), MOST // 11)
 
 
 def stretches_beyond(signs):

@@ -6,94 +6,14 @@ import unittest
 from skeinwood.cutting import cut_at, put_in
 from skeinwood.errors import NoPiece
 from skeinwood.heights import leanest
-from skeinwood.joining import built, joined, repeated
+from skeinwood.joining import built, joined
 from skeinwood.spelling import begins_text, items_signs, spells
-from tests.helper import MOST, ShelfCase, drawn_plain, leaf_list, reads, some_text, spread, times_itself, way_by_pieces
+from tests.helper import (
+    MOST, NO_ITEMS, ShelfCase, begun, drawn_plain, drawn_row, gathered, leaf_list, long_texts, plain_items, reads,
+    some_text, spelled, spread, times_itself, way_by_pieces,
+)
 
 LOW = ["a", "12345678", "123456789", "one\ntwo\n", "abcdefghijklmnopqr", "\n" * 17, "Skein, wood.\n" * 3]
-# Nothing of these is an item of a spelling, whatever pieces the shelf has.
-NO_ITEMS = [
-    0, -1, -2, 10 ** 29, -(10 ** 29), True, False, None, "", "123456789", "a" * 9, "a" * 30, "\t", "a\tb", "\r",
-    "\u00e9", [], ["a"], [1], (), (1,), ("leaf", "a"), {}, {1: "a"},
-]
-
-
-def tokens(items):
-    """The list in which the plain items are put as their single signs."""
-    found = []
-    for item in items:
-        found += list(item) if isinstance(item, str) else [item]
-    return found
-
-
-def are_items(shelf, items):
-    """Whether each is a piece's number or a plain text of one to eight signs."""
-    for item in items:
-        if type(item) is int and 1 <= item <= shelf.many():
-            continue
-        if type(item) is str and 1 <= len(item) <= 8 and all(sign == "\n" or " " <= sign <= "~" for sign in item):
-            continue
-        return False
-    return True
-
-
-def spelled_ends(shelf, text, row, begin):
-    """Each end up to which the row's numbers and single signs from begin on spell the text, by the document's rules."""
-    if text == 0:
-        return {begin}
-    found = {begin + 1} if row[begin:begin + 1] == [text] else set()
-    piece = shelf.piece(text)
-    if piece[0] == "fork":
-        return found.union(*[spelled_ends(shelf, piece[2], row, end)
-                             for end in spelled_ends(shelf, piece[1], row, begin)])
-    end = begin + len(piece[1])
-    return found | {end} if row[begin:end] == list(piece[1]) else found
-
-
-def begun_by(shelf, text, row, begin):
-    """Whether further numbers and signs behind the row would make it, from begin on, spell the text."""
-    rest = row[begin:]
-    if rest == [] or text == 0:
-        return rest == []
-    piece = shelf.piece(text)
-    if piece[0] == "leaf":
-        return rest == [text] or rest == list(piece[1])[:len(rest)]
-    if rest == [text] or begun_by(shelf, piece[1], row, begin):
-        return True
-    return any(begun_by(shelf, piece[2], row, end) for end in spelled_ends(shelf, piece[1], row, begin))
-
-
-def drawn_row(shelf, chance, text, opened):
-    """Numbers and single signs that spell the text; of ten forks so many are opened, and so are leaves."""
-    if text == 0:
-        return []
-    if chance.randrange(10) >= opened:
-        return [text]
-    piece = shelf.piece(text)
-    if piece[0] == "leaf":
-        return list(piece[1])
-    return drawn_row(shelf, chance, piece[1], opened) + drawn_row(shelf, chance, piece[2], opened)
-
-
-def gathered(chance, row, most=8):
-    """The same as items: signs that stand side by side put together as drawn, so many at most."""
-    items = []
-    room = 0
-    for token in row:
-        if isinstance(token, int):
-            items.append(token)
-            room = 0
-        elif room > 0:
-            items[-1] += token
-            room -= 1
-        else:
-            items.append(token)
-            room = chance.randrange(most)
-    return items
-
-
-def plain_items(plain, length):
-    return [plain[begin:begin + length] for begin in range(0, len(plain), length)]
 
 
 def row_along(shelf, text, place):
@@ -119,9 +39,8 @@ class SpellingCase(ShelfCase):
 
     def by_rule(self, text, items):
         """Hold what is told of the items against the document's own rules."""
-        good, row = are_items(self.shelf, items), tokens(items)
-        self.told_spelled(text, items, good and len(row) in spelled_ends(self.shelf, text, row, 0))
-        self.told_begun(text, items, good and begun_by(self.shelf, text, row, 0))
+        self.told_spelled(text, items, spelled(self.shelf, text, items))
+        self.told_begun(text, items, begun(self.shelf, text, items))
 
     def stands(self, text, items):
         """The items spell the text, and every beginning of them begins it, and spells it only where it is all."""
@@ -369,18 +288,9 @@ class ItemsSignsTest(SpellingCase):
 
 
 class LongTest(SpellingCase):
-    def long_texts(self):
-        yield spread(self.shelf, MOST)
-        yield spread(self.shelf, MOST - 7, small_first=True)
-        yield times_itself(self.shelf, "a\nbcdefg", 56)
-        yield times_itself(self.shelf, "\n5678", 50)
-        yield leanest(self.shelf, 82)
-        yield leanest(self.shelf, 57)
-        yield repeated(self.shelf, built(self.shelf, "some words\n"), MOST // 11)
-
     def test_along_a_way(self):
         chance = random.Random(91)
-        for text in self.long_texts():
+        for text in long_texts(self.shelf):
             self.stands(text, [text])
             signs = self.shelf.signs(text)
             for place in [0, signs - 1, signs // 2] + [chance.randrange(signs) for turn in range(3)]:
@@ -400,7 +310,7 @@ class LongTest(SpellingCase):
 
     def test_beginnings_in_plain_items(self):
         chance = random.Random(92)
-        for text in self.long_texts():
+        for text in long_texts(self.shelf):
             plain = "".join(way_by_pieces(self.shelf, text, place)[1] for place in range(70))
             for signs in range(71):
                 items = plain_items(plain[:signs], chance.randint(1, 8))
@@ -409,7 +319,7 @@ class LongTest(SpellingCase):
                 self.told_begun(text, items + ["~"], False)
 
     def test_a_part_and_plain_items_behind_it(self):
-        for text in self.long_texts():
+        for text in long_texts(self.shelf):
             one, other = self.shelf.piece(text)[1:]
             plain = "".join(way_by_pieces(self.shelf, other, place)[1] for place in range(40))
             for length in range(1, 9):
