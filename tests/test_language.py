@@ -109,6 +109,60 @@ class LanguageTest(unittest.TestCase):
                 for drawn in draws.pop(name):
                     self.assertTrue((FOLDER / (drawn.removeprefix("skeinwood.") + ".py")).is_file(), drawn)
 
+    def test_the_top_of_a_file(self):
+        for text, tree in self.each():
+            defs, bound = [], []
+            for place, node in enumerate(tree.body):
+                if isinstance(node, ast.Expr):
+                    self.assertEqual((place, isinstance(node.value.value, str)), (0, True))
+                elif isinstance(node, ast.ImportFrom):
+                    bound += [drawn.asname or drawn.name for drawn in node.names]
+                elif isinstance(node, (ast.FunctionDef, ast.ClassDef)):
+                    bound.append(node.name)
+                    defs += [node.name] if isinstance(node, ast.FunctionDef) else []
+                else:
+                    self.assertIsInstance(node, ast.Assign)
+                    bound.append(node.targets[0].id)
+                    self.plain_value(node.value, defs, False)
+            self.assertEqual(len(set(bound)), len(bound))
+
+    def plain_value(self, node, defs, within):
+        """A number, a text, a function defined above, or a list, tuple or dict of these, none of the first within."""
+        if isinstance(node, ast.Name):
+            self.assertIn(node.id, defs)
+        elif isinstance(node, ast.Dict):
+            self.assertFalse(within)
+            for part in node.keys + node.values:
+                self.plain_value(part, defs, True)
+        elif isinstance(node, (ast.List, ast.Tuple)):
+            self.assertFalse(within and isinstance(node, ast.List))
+            for part in node.elts:
+                self.plain_value(part, defs, True)
+        else:
+            self.assertIsInstance(node, ast.Constant)
+
+    def test_the_lists_and_dicts_of_a_files_top_are_only_read(self):
+        for text, tree in self.each():
+            kept = [node.targets[0].id for node in tree.body
+                    if isinstance(node, ast.Assign) and isinstance(node.value, (ast.Dict, ast.List))]
+            parents = parents_of(tree)
+            for node in ast.walk(tree):
+                if isinstance(node, ast.Name) and node.id in kept and isinstance(node.ctx, ast.Load):
+                    above = parents[node]
+                    read = isinstance(above, ast.Subscript) and isinstance(above.ctx, ast.Load) and above.value is node
+                    asked = isinstance(above, ast.Attribute) and above.attr == "get"
+                    self.assertTrue(read or asked or isinstance(above, ast.Compare), node.id)
+
+    def test_errors_that_are_taken_are_the_packages_own(self):
+        errors = ast.parse((FOLDER / "errors.py").read_text())
+        own = {node.name for node in errors.body if isinstance(node, ast.ClassDef)}
+        for text, tree in self.each():
+            for node in ast.walk(tree):
+                if isinstance(node, ast.ExceptHandler):
+                    self.assertIn(getattr(node.type, "id", None), own)
+                if isinstance(node, ast.Raise):
+                    self.assertIn(called(node.exc), own)
+
     def test_functions_and_classes(self):
         for text, tree in self.each():
             for node in ast.walk(tree):
